@@ -1,0 +1,1 @@
+"""Editors apart: changes drafted apart, accepted, and taken back."""
