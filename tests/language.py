@@ -5,28 +5,30 @@ import builtins
 import re
 
 NODES = (
-    "Module Import ImportFrom alias FunctionDef arguments arg Lambda ClassDef Assign AugAssign If While For Return Break "
-    "Continue Pass Raise Try ExceptHandler Expr Constant List Tuple Dict Set BinOp Add Sub Mult FloorDiv Mod Pow BitAnd "
-    "BitOr BitXor LShift RShift UnaryOp USub UAdd Invert Not BoolOp And Or Compare Eq NotEq Lt LtE Gt GtE In NotIn Is "
-    "IsNot IfExp Call keyword Attribute Subscript Slice ListComp comprehension JoinedStr FormattedValue Name Load Store"
+    "Module Import ImportFrom alias FunctionDef arguments arg Lambda ClassDef Assign AugAssign If While For "
+    "Return Break Continue Pass Raise Try ExceptHandler Expr Constant List Tuple Dict Set BinOp Add Sub Mult "
+    "FloorDiv Mod Pow BitAnd BitOr BitXor LShift RShift UnaryOp USub UAdd Invert Not BoolOp And Or Compare Eq "
+    "NotEq Lt LtE Gt GtE In NotIn Is IsNot IfExp Call keyword Attribute Subscript Slice ListComp comprehension "
+    "JoinedStr FormattedValue Name Load Store"
 ).split()
 BUILTINS = (
-    "len range enumerate zip min max sum abs sorted reversed int str bool list tuple dict set frozenset isinstance ord "
-    "repr any all divmod Exception ValueError TypeError KeyError IndexError LookupError ZeroDivisionError "
-    "ArithmeticError OverflowError RuntimeError NotImplementedError AttributeError StopIteration"
+    "len range enumerate zip min max sum abs sorted reversed int str bool list tuple dict set frozenset "
+    "isinstance ord repr any all divmod Exception ValueError TypeError KeyError IndexError LookupError "
+    "ZeroDivisionError ArithmeticError OverflowError RuntimeError NotImplementedError AttributeError "
+    "StopIteration"
 ).split()
 METHODS = (
-    "append clear copy count endswith extend find get index insert isalnum isalpha isdigit islower isspace isupper items "
-    "join keys ljust lower lstrip partition pop remove replace reverse rfind rjust rpartition rsplit rstrip setdefault "
-    "split splitlines startswith strip update upper values zfill bit_length"
+    "append clear copy count endswith extend find get index insert isalnum isalpha isdigit islower isspace "
+    "isupper items join keys ljust lower lstrip partition pop remove replace reverse rfind rjust rpartition "
+    "rsplit rstrip setdefault split splitlines startswith strip update upper values zfill bit_length"
 ).split()
 CHANGING = "append clear extend insert pop remove reverse setdefault update".split()
 WALKED = "zip enumerate reversed range".split()
 WALKERS = "list tuple dict sorted sum any all enumerate zip min max".split()
 NEVER = (
-    "register mro elements open input version_info with_traceback add_note f_back tb_next co_names attrgetter breakpoint "
-    "builtins compile copyright credits delattr dir eval exec exit gc getattr globals hasattr help id importlib license "
-    "locals methodcaller os quit setattr super type vars sys chr format format_map print"
+    "register mro elements open input version_info with_traceback add_note f_back tb_next co_names attrgetter "
+    "breakpoint builtins compile copyright credits delattr dir eval exec exit gc getattr globals hasattr help id "
+    "importlib license locals methodcaller os quit setattr super type vars sys chr format format_map print"
 ).split()
 NEVER_WORDS = (
     "type typing typing_extensions enum Enum IntEnum StrEnum Flag IntFlag Generic Protocol ABC ABCMeta namedtuple "

@@ -70,8 +70,8 @@ class LimitTest(CallTest):
 
 class InterfaceTest(unittest.TestCase):
     CALLS = [
-        *draft("set 1.1 a\nset 1.2 b\n"), *draft("swap 1.1 1.2\n", [1]), *check("x"), *accept(2), *accept(1), *accept(2),
-        *things(), *draft("clear 1.1\n", [9]), *takeall(1), *joinall(), *value(1, 1), *draft([300] * 700),
+        *draft("set 1.1 a\nset 1.2 b\n"), *draft("swap 1.1 1.2\n", [1]), *check("x"), *accept(2), *accept(1),
+        *accept(2), *things(), *draft("clear 1.1\n", [9]), *takeall(1), *joinall(), *value(1, 1), *draft([300] * 700),
     ]
     EXPECTED = [
         2, 0, 1, 2, 0, 2, 3, 0, 1, 1, 1, -8, 2, 0, 1, 2, 0, 2, 10, 0, 2, 1, 1, 1, 98, 1, 2, 1, 97, 1, -5,
