@@ -24,7 +24,9 @@ def things_of(acts, with_first, with_second):
 
 
 class Change:
-    def __init__(self, acts, seen, stands):
+    def __init__(self, editor, text, acts, seen, stands):
+        self.editor = editor
+        self.text = text
         self.acts = acts
         self.reads = things_of(acts, READING_FIRST, READING_SECOND)
         self.writes = things_of(acts, WRITING_FIRST, WRITING_SECOND)
@@ -68,11 +70,26 @@ def do_act(act, held):
         held[act[2]] = before
 
 
-# The acts are done on a copy, so that a change that fails halfway has done nothing.
-def values_behind(change, held):
+# The acts are done on a copy, so that a change that fails halfway has done nothing; None stands for failing.
+def values_if_done(change, held):
     after = dict(held)
     for act in change.acts:
         if act_fails(act, after):
-            return held
+            return None
         do_act(act, after)
     return after
+
+
+def values_behind(change, held):
+    after = values_if_done(change, held)
+    return held if after is None else after
+
+
+def filled_things(held):
+    return [thing for thing in sorted(held) if held[thing] != ""]
+
+
+# A thing that one of them doesn't name is empty there, which may be no difference.
+def unlike_things(before, after):
+    named = sorted(set(before) | set(after))
+    return [thing for thing in named if before.get(thing, "") != after.get(thing, "")]

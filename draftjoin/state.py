@@ -6,7 +6,7 @@ from draftjoin.changes import Change, DRAFT, IN_FORCE, REFUSED, TAKEN_BACK, feed
 class House:
     def __init__(self):
         self.changes = []
-        self.force = []
+        self.in_force = []
 
     def numbered(self, number):
         return self.changes[number - 1]
@@ -17,19 +17,23 @@ class House:
     def is_draft(self, number):
         return self.there_is(number) and self.numbered(number).condition == DRAFT
 
-    def put_draft(self, acts, stands):
-        self.changes.append(Change(acts, list(self.force), stands))
+    def put_draft(self, editor, stands, text, acts):
+        self.changes.append(Change(editor, text, acts, list(self.in_force), stands))
         return len(self.changes)
+
+    def feeding(self, first, second):
+        return feeds(self.numbered(first), self.numbered(second))
+
+    def meeting(self, first, second):
+        return meet(self.numbered(first), self.numbered(second))
 
     # The row is told, so that acceptall can try what would be in force before it changes anything.
     def clashing(self, number, row):
-        change = self.numbered(number)
-        known = change.known()
-        return [other for other in row if other not in known and meet(self.numbered(other), change)]
+        known = self.numbered(number).known()
+        return [other for other in row if other not in known and self.meeting(other, number)]
 
     def needed(self, number):
-        change = self.numbered(number)
-        return [other for other in change.known() if feeds(self.numbered(other), change)]
+        return [other for other in self.numbered(number).known() if self.feeding(other, number)]
 
     def lacking(self, number, row):
         return [other for other in self.needed(number) if other not in row]
@@ -41,14 +45,14 @@ class House:
         found = [number]
         place = 0
         while place < len(found):
-            for other in self.lacking(found[place], self.force):
+            for other in self.lacking(found[place], self.in_force):
                 if other not in found:
                     found.append(other)
             place += 1
         return sorted(found)
 
     def can_accept_in_turn(self, numbers):
-        row = list(self.force)
+        row = list(self.in_force)
         for number in numbers:
             if not self.can_accept(number, row):
                 return False
@@ -58,7 +62,7 @@ class House:
     def put_in_force(self, number):
         change = self.numbered(number)
         change.condition = IN_FORCE
-        self.force.append(number)
+        self.in_force.append(number)
 
     def put_refused(self, number):
         change = self.numbered(number)
@@ -66,13 +70,13 @@ class House:
 
     def look_again(self, number):
         change = self.numbered(number)
-        change.seen = list(self.force)
+        change.seen = list(self.in_force)
         change.stands = []
 
     def falling(self, number):
         fallen = [number]
-        for other in self.force[self.force.index(number) + 1:]:
-            if any([feeds(self.numbered(one), self.numbered(other)) for one in fallen]):
+        for other in self.in_force[self.in_force.index(number) + 1:]:
+            if any([self.feeding(one, other) for one in fallen]):
                 fallen.append(other)
         return fallen
 
@@ -80,10 +84,20 @@ class House:
         for number in numbers:
             change = self.numbered(number)
             change.condition = TAKEN_BACK
-        self.force = [number for number in self.force if number not in numbers]
+        self.in_force = [number for number in self.in_force if number not in numbers]
 
-    def held_values(self):
+    def last_writing(self, thing):
+        found = 0
+        for number in self.in_force:
+            if thing in self.numbered(number).writes:
+                found = number
+        return found
+
+    def values_in_order(self, row):
         held = {}
-        for number in self.force:
+        for number in row:
             held = values_behind(self.numbered(number), held)
         return held
+
+    def held_values(self):
+        return self.values_in_order(self.in_force)

@@ -41,13 +41,35 @@ def done(acts, held):
     return after
 
 
+def signs(word):
+    return [len(word), *word.encode()]
+
+
+def pair(thing):
+    return tuple(map(int, thing.split(".")))
+
+
+def by_pairs(held):
+    """Values by entry and field, those that are empty left out."""
+    return {pair(thing): value for thing, value in held.items() if value}
+
+
+def unlike(one, other):
+    return sorted({*one, *other} - {thing for thing in one if one[thing] == other.get(thing)})
+
+
 class Change:
-    def __init__(self, text, acts, seen, stands):
-        self.text, self.acts, self.known, self.condition = text, acts, {*seen, *stands}, 0
+    def __init__(self, editor, text, acts, seen, stands):
+        self.editor, self.text, self.acts, self.condition = editor, text, acts, 0
+        self.seen, self.stands = list(seen), list(stands)
         self.writes = {act[1] for act in acts if act[0] not in ("need", "empty")}
         self.writes |= {act[2] for act in acts if act[0] == "swap"}
         self.touched = self.writes | {act[1] for act in acts}
         self.touched |= {act[2] for act in acts if act[0] in ("copy", "join", "swap")}
+
+    @property
+    def known(self):
+        return {*self.seen, *self.stands}
 
 
 class House:
@@ -89,11 +111,14 @@ class House:
             self.changes[number].condition = 3
             self.force.remove(number)
 
-    def held(self):
+    def raw(self, row):
         held = {}
-        for number in self.force:
+        for number in row:
             held = done(self.changes[number].acts, held)
-        return {tuple(map(int, thing.split("."))): value for thing, value in held.items() if value}
+        return held
+
+    def held(self):
+        return by_pairs(self.raw(self.force))
 
     def call_draft(self, editor, stands, text):
         acts = acts_of(text)
@@ -103,7 +128,7 @@ class House:
             return [-4]
         if isinstance(acts, int):
             return [-3]
-        self.changes[len(self.changes) + 1] = Change(text, acts, self.force, stands)
+        self.changes[len(self.changes) + 1] = Change(editor, text, acts, self.force, stands)
         return [0, len(self.changes)]
 
     def call_on_change(self, call, number):
@@ -133,7 +158,7 @@ class House:
         return [0]
 
     def look(self, number):
-        self.changes[number].known = set(self.force)
+        self.changes[number].seen, self.changes[number].stands = list(self.force), []
         return [0, len(self.force)]
 
     def takeback(self, number):
@@ -155,5 +180,66 @@ class House:
         held = self.held()
         answer = [0, len(held)]
         for thing in sorted(held):
-            answer += [*thing, len(held[thing]), *held[thing].encode()]
+            answer += [*thing, *signs(held[thing])]
         return answer
+
+    def ask(self, call, number):
+        """The calls 11 to 14 and 16."""
+        if number not in self.changes:
+            return [-5]
+        condition = self.changes[number].condition
+        if call in (11, 12) and condition != 0:
+            return [-6]
+        if call == 14 and condition != 1:
+            return [-9]
+        asked = {11: self.would, 12: self.clash_list, 13: self.needs, 14: self.fall_list, 16: self.told}
+        return [0, *asked[call](number)]
+
+    def would(self, number):
+        # A mark of its own, put in as if it were a thing, is gone if and only if the change failed.
+        before = self.raw(self.force)
+        marked = done([*self.changes[number].acts, ["set", "0.0", "x"]], before)
+        after = {thing: value for thing, value in marked.items() if thing != "0.0"}
+        before, after = by_pairs(before), by_pairs(after)
+        found = unlike(before, after)
+        answer = [int("0.0" in marked), len(found)]
+        for thing in found:
+            answer += [*thing, *signs(after.get(thing, ""))]
+        return answer
+
+    def clash_list(self, number):
+        found = sorted(self.clashes(number), key=self.force.index)
+        return [len(found), *found]
+
+    def needs(self, number):
+        change = self.changes[number]
+        needed = [one for one in change.seen if self.feeds(one, number)]
+        needed += [one for one in change.stands if self.feeds(one, number)]
+        lacked = [one for one in needed if self.changes[one].condition != 1]
+        return [len(needed), *needed, len(lacked), *lacked]
+
+    def fall_list(self, number):
+        fallen = self.falls(number)
+        return [len(fallen), *fallen]
+
+    def told(self, number):
+        one = self.changes[number]
+        return [one.editor, one.condition, len(one.seen), len(one.stands), *one.stands, *one.text]
+
+    def meets(self, first, second):
+        if first not in self.changes or second not in self.changes:
+            return [-5]
+        return [0, int(self.meet(first, second)), int(self.feeds(first, second))]
+
+    def writer(self, thing):
+        return [0, next((one for one in reversed(self.force) if thing in self.changes[one].writes), 0)]
+
+    def order(self, row):
+        if {*row} != {*self.force}:
+            return [-11]
+        found = unlike(self.held(), by_pairs(self.raw(row)))
+        return [0, len(found), *[part for thing in found for part in thing]]
+
+    def state(self):
+        drafts = [one for one in self.changes.values() if one.condition == 0]
+        return [0, len(self.changes), len(drafts), len(self.force), len(self.held())]

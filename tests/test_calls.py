@@ -1,16 +1,12 @@
 """The calls 0 to 8: ordinary cases, each refusal told with them, and the order among refusals."""
 
 from tests.helper import (
-    CallTest, accept, acceptall, check, draft, joinall, last, look, refuse, run, takeall, takeback, things,
+    CallTest, accept, acceptall, check, draft, joinall, last, look, refuse, run, signs, takeall, takeback, things,
 )
 
 A = "set 1.1 a\n"
 B = "set 1.1 b\n"
 FAR = "set 9.9 z\n"
-
-
-def signs(text):
-    return [len(text), *text.encode()]
 
 
 class DraftTest(CallTest):

@@ -93,7 +93,7 @@ class LanguageTest(unittest.TestCase):
         self.assertTrue(faults(circle, "draftjoin"))
 
     def test_it_prints_reads_and_imports_nothing(self):
-        words = "import sys; from draftjoin.house import answers; seen = set(sys.modules); answers([8, 10])\n"
-        words += "new = set(sys.modules) - seen; sys.exit(1 if new else 0)"
+        words = "import sys; from draftjoin.house import answers; seen = set(sys.modules)\n"
+        words += "answers([8, 10, 18, 0, 19, 20]); new = set(sys.modules) - seen; sys.exit(1 if new else 0)"
         done = subprocess.run([sys.executable, "-c", words], cwd=ROOT, capture_output=True, stdin=subprocess.DEVNULL)
         self.assertEqual((done.returncode, done.stdout, done.stderr), (0, b"", b""))

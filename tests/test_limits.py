@@ -3,7 +3,10 @@
 import unittest
 
 from draftjoin.house import answers
-from tests.helper import CallTest, accept, check, draft, joinall, last, run, taken_apart, takeall, things, value
+from tests.helper import (
+    CallTest, accept, acceptall, change, check, clashes, draft, falls, force, joinall, last, look, meet, needs, order,
+    refuse, run, state, takeall, takeback, taken_apart, things, value, would, writer,
+)
 
 
 class LimitTest(CallTest):
@@ -58,6 +61,22 @@ class LimitTest(CallTest):
             self.assertEqual(given[number * 5 - 1], [0, 0])
         self.assertEqual(given[-3], [0, 2, 1, 1, 20, *b"12345678910111213141", 1, 2, 2, *b"40"])
 
+    def test_two_hundred_calls_that_ask(self):
+        texts = [f"set 1.1 v{number}\nswap 1.1 {number % 20 + 1}.2\n" for number in range(1, 31)]
+        calls = [call for number, text in enumerate(texts, start=1) for call in (draft(text), accept(number))]
+        everyone = range(1, 31)
+        calls += [*map(falls, everyone), *map(needs, everyone), *map(change, everyone), *[order(everyone)] * 30]
+        calls += [*[force()] * 10, *[state()] * 10]
+        given = run(calls)
+        self.assertEqual(len(given), 200)
+        for number in everyone:
+            self.assertEqual(given[59 + number], [0, 31 - number, *range(number, 31)])
+            self.assertEqual(given[89 + number], [0, number - 1, *range(1, number), 0])
+            self.assertEqual(given[119 + number], [0, 1, 1, number - 1, 0, *texts[number - 1].encode()])
+        self.assertEqual(given[150:180], [[0, 0]] * 30)
+        self.assertEqual(given[180:190], [[0, 30, *everyone]] * 10)
+        self.assertEqual(given[190:], [[0, 30, 0, 30, 21]] * 10)
+
     def test_two_hundred_refused_calls(self):
         self.assertEqual(run([accept(0)] * 200), [[-1]] * 200)
 
@@ -100,6 +119,52 @@ class InterfaceTest(unittest.TestCase):
             append = extend = insert = pop = remove = clear = sort = reverse = forbidden
 
         self.assertEqual(answers(Fixed(self.CALLS)), self.EXPECTED)
+        self.assertEqual(answers(Fixed(self.flat())), answers(self.flat()))
+
+    # Every call from 0 to 20, with its answer as it stands in the list that is given back.
+    EVERY = [
+        (draft("set 1.1 a\nset 2.1 b\n", editor=2), [2, 0, 1]),
+        (draft("copy 3.1 1.1\n", [1], editor=4), [2, 0, 2]),
+        (check("clear 1.1\n"), [3, 0, 0, 1]),
+        (accept(2), [1, -8]),
+        (acceptall(2), [4, 0, 2, 1, 2]),
+        (draft("join 1.1 2.1\nclear 2.1\n"), [2, 0, 3]),
+        (draft("empty 9.9\nset 1.1 q\n"), [2, 0, 4]),
+        (would(3), [11, 0, 1, 2, 1, 1, 2, 97, 98, 2, 1, 0]),
+        (accept(3), [2, 0, 3]),
+        (clashes(4), [3, 0, 1, 3]),
+        (needs(4), [4, 0, 1, 1, 0]),
+        (look(4), [2, 0, 3]),
+        (falls(1), [5, 0, 3, 1, 2, 3]),
+        (meet(2, 1), [3, 0, 1, 0]),
+        (change(2), [19, 0, 4, 1, 0, 1, 1, *b"copy 3.1 1.1\n"]),
+        (change(4), [25, 0, 1, 0, 3, 0, *b"empty 9.9\nset 1.1 q\n"]),
+        (writer(1, 1), [2, 0, 3]),
+        (order([1, 3, 2]), [4, 0, 1, 3, 1]),
+        (order([1, 3]), [1, -11]),
+        (force(), [5, 0, 3, 1, 2, 3]),
+        (state(), [5, 0, 4, 1, 3, 2]),
+        (takeback(2), [1, 0]),
+        (refuse(4), [1, 0]),
+        (takeall(1), [4, 0, 2, 1, 3]),
+        (joinall(), [2, 0, 0]),
+        (value(1, 1), [1, 0]),
+        (things(), [2, 0, 0]),
+    ]
+
+    def flat(self):
+        return [number for call, answer in self.EVERY for number in call]
+
+    def test_every_call(self):
+        self.assertEqual({call[0] for call, answer in self.EVERY}, {*range(21)})
+        handed = self.flat()
+        given = answers(handed)
+        self.assertEqual(given, [number for call, answer in self.EVERY for number in answer])
+        self.assertEqual(handed, self.flat())
+        for number in given:
+            self.assertIs(type(number), int)
+        answers(self.CALLS)
+        self.assertEqual(answers(handed), given)
 
     def test_nothing_is_kept(self):
         first = answers(list(self.CALLS))

@@ -1,7 +1,8 @@
 """-1: numbers out of range, rows too long, bytes that are none, changes told twice; ahead of all other refusals."""
 
 from tests.helper import (
-    CallTest, accept, acceptall, check, draft, joinall, last, look, refuse, takeall, takeback, things,
+    CallTest, accept, acceptall, change, check, clashes, draft, falls, joinall, last, look, meet, needs, refuse,
+    takeall, takeback, things, value, would, writer,
 )
 
 WIDEST = 10 ** 18
@@ -11,7 +12,7 @@ AHEAD = [
     draft(TEXT), draft("set 2.1 b\n"), draft("set 3.1 c\n"), draft("set 4.1 d\n"), draft("join 5.1 1.1\n", [1]),
     accept(2), refuse(3), accept(4), takeback(4),
 ]
-OF_A_CHANGE = (accept, acceptall, refuse, look, takeback, takeall)
+OF_A_CHANGE = (accept, acceptall, refuse, look, takeback, takeall, would, clashes, needs, falls, change)
 
 
 class ChangeRangeTest(CallTest):
@@ -32,6 +33,42 @@ class ChangeRangeTest(CallTest):
             for change, refusal in ((0, -1), (1, -5), (40, -5), (41, -1)):
                 with self.subTest(call=call.__name__, change=change):
                     self.assert_refused([], call(change), refusal)
+
+
+class MeetRangeTest(CallTest):
+    def test_either_out_of_range(self):
+        for wrong in (0, 41, -1, -40, 1000, WIDEST, -WIDEST):
+            for first, second in ((wrong, 1), (1, wrong), (wrong, wrong), (wrong, 6), (6, wrong), (40, wrong)):
+                with self.subTest(first=first, second=second):
+                    self.assert_refused(AHEAD, meet(first, second), -1)
+
+    def test_either_not_there(self):
+        for absent in (6, 7, 40):
+            for first, second in ((absent, 1), (1, absent), (absent, absent), (absent, 3), (4, absent)):
+                with self.subTest(first=first, second=second):
+                    self.assert_refused(AHEAD, meet(first, second), -5)
+
+    def test_in_a_new_house(self):
+        for first, second, refusal in ((1, 1, -5), (40, 1, -5), (0, 1, -1), (1, 0, -1), (41, 40, -1), (40, 41, -1)):
+            self.assert_refused([], meet(first, second), refusal)
+
+
+class ThingRangeTest(CallTest):
+    def test_outermost_things(self):
+        for entry in (1, 20):
+            for field in (1, 9):
+                self.assertEqual(last([*AHEAD, writer(entry, field)]), [0, 0])
+                self.assertEqual(last([*AHEAD, value(entry, field)]), [0])
+
+    def test_out_of_range(self):
+        for call in (value, writer):
+            for wrong in (0, -1, -20, WIDEST, -WIDEST):
+                for entry, field in ((wrong, 1), (1, wrong), (wrong, wrong), (20, wrong), (wrong, 9)):
+                    with self.subTest(call=call.__name__, entry=entry, field=field):
+                        self.assert_refused(AHEAD, call(entry, field), -1)
+            for entry, field in ((21, 1), (21, 9), (1, 10), (20, 10), (9, 20), (21, 10)):
+                with self.subTest(call=call.__name__, entry=entry, field=field):
+                    self.assert_refused(AHEAD, call(entry, field), -1)
 
 
 class DraftRangeTest(CallTest):
